@@ -1,0 +1,1 @@
+"""Lotthrows: cards thrown by kind onto trays and piles."""

@@ -1,0 +1,137 @@
+"""The interface stands where the document lists it, and the package keeps the form that it must have."""
+
+import ast
+import builtins
+import importlib
+import inspect
+import unittest
+from pathlib import Path
+
+PACKAGE = Path(__file__).resolve().parent.parent / "lotthrows"
+INTERFACE = {
+    "decks": {
+        "is_deck": "(size, thing)", "is_order": "(n, thing)", "laid": "(deck, order)", "together": "(one, other)",
+        "undone_order": "(order)", "opposite": "(order)", "counts_of": "(size, deck)", "deck_text": "(deck)",
+        "read_deck": "(text)",
+    },
+    "throws": {
+        "is_throw": "(thing)", "size_of": "(throw)", "still": "(size)", "turning": "(size)",
+        "lot_of": "(throw, kind)", "way_of": "(throw, a, b)", "order_after": "(throw, deck)",
+        "deck_after": "(throw, deck)", "throw_text": "(throw)", "read_throw": "(text)",
+    },
+}
+CALLED_BUILTINS = (
+    "len range enumerate zip min max sum abs sorted reversed int str bool list tuple dict set isinstance ord repr any "
+    "all divmod Exception ValueError TypeError KeyError IndexError LookupError"
+).split()
+BARRED_WORDS = (
+    "register mro elements open input law version_info with_traceback add_note type typing typing_extensions enum Enum "
+    "IntEnum StrEnum Flag IntFlag Generic Protocol ABC ABCMeta namedtuple NamedTuple TypedDict TYPE_CHECKING "
+    "abstractmethod attrgetter compile copyright credits dir eval exec exit gc globals help id importlib license locals "
+    "methodcaller os quit setattr super vars sys"
+).split()
+BARRED_NODES = (
+    ast.AsyncFunctionDef, ast.Global, ast.Div, ast.Set, ast.SetComp, ast.Import, ast.Await, ast.AnnAssign, ast.TryStar,
+)
+
+
+def sources():
+    """Each file of the package with its text and its tree."""
+    for path in sorted(PACKAGE.glob("*.py")):
+        text = path.read_text(encoding="utf-8")
+        yield path, text, ast.parse(text)
+
+
+def bound_names(tree):
+    """All names that are bound within functions: parameters, variables, targets."""
+    for node in ast.walk(tree):
+        if isinstance(node, ast.arg):
+            yield node.arg
+        elif isinstance(node, ast.Name) and isinstance(node.ctx, ast.Store):
+            yield node.id
+
+
+def imported_names(tree):
+    """The pairs (module, name) of all imports."""
+    for node in ast.walk(tree):
+        if isinstance(node, ast.ImportFrom):
+            for alias in node.names:
+                yield node.module, alias.name
+
+
+class InterfaceTest(unittest.TestCase):
+    def test_functions_stand_in_their_files_with_their_parameters(self):
+        for name, functions in INTERFACE.items():
+            module = importlib.import_module("lotthrows." + name)
+            for function, parameters in functions.items():
+                found = getattr(module, function)
+                self.assertTrue(inspect.isfunction(found))
+                self.assertEqual((found.__module__, found.__name__), (module.__name__, function))
+                self.assertEqual(str(inspect.signature(found)), parameters, function)
+
+
+class FormTest(unittest.TestCase):
+    def test_the_folder_contains_nothing_else(self):
+        for path in PACKAGE.iterdir():
+            if path.name != "__pycache__":
+                self.assertRegex(path.name, r"\A[a-z_][a-z0-9_]*\.py\Z")
+
+    def test_characters_and_sizes(self):
+        for path, text, tree in sources():
+            self.assertTrue(all(sign == "\n" or " " <= sign <= "~" for sign in text), path)
+            self.assertLessEqual(len(text.splitlines()), 399, path)
+            self.assertLessEqual(max(len(line) for line in text.splitlines()), 120, path)
+            for node in ast.walk(tree):
+                if isinstance(node, ast.FunctionDef):
+                    self.assertLessEqual(node.end_lineno - node.lineno + 1, 40, node.name)
+
+    def test_imports_are_full_and_used_and_name_the_defining_file(self):
+        for path, text, tree in sources():
+            used = {node.id for node in ast.walk(tree) if isinstance(node, ast.Name)}
+            for module, name in imported_names(tree):
+                self.assertRegex(module, r"\Alotthrows\.[a-z]+\Z", path)
+                self.assertIn(name, used, path)
+                source = ast.parse((PACKAGE / (module.split(".")[1] + ".py")).read_text(encoding="utf-8"))
+                defined = [node.name for node in source.body if isinstance(node, (ast.FunctionDef, ast.ClassDef))]
+                defined += [target.id for node in source.body if isinstance(node, ast.Assign) for target in node.targets]
+                self.assertIn(name, defined, path)
+
+    def test_no_two_files_import_from_each_other(self):
+        reached = {path.stem: {module.split(".")[1] for module, _ in imported_names(tree)} for path, _, tree in sources()}
+        for _ in reached:
+            for name in reached:
+                for other in list(reached[name]):
+                    reached[name] |= reached[other]
+        for name in reached:
+            self.assertNotIn(name, reached[name])
+
+    def test_names(self):
+        for path, text, tree in sources():
+            top = [node.name for node in tree.body if isinstance(node, (ast.FunctionDef, ast.ClassDef))]
+            taken = {node.name for node in tree.body if isinstance(node, ast.ClassDef)}
+            taken |= {name for _, name in imported_names(tree)}
+            self.assertEqual(len(top), len(set(top)), path)
+            for name in (*top, *bound_names(tree)):
+                self.assertFalse(hasattr(builtins, name), (path, name))
+                self.assertRegex(name, r"\A([A-Za-z][A-Za-z0-9_]*|_)\Z")
+            for name in bound_names(tree):
+                self.assertNotIn(name, taken, path)
+
+    def test_only_what_the_subset_has(self):
+        for path, text, tree in sources():
+            for node in ast.walk(tree):
+                where = (path, getattr(node, "lineno", 0))
+                self.assertNotIsInstance(node, BARRED_NODES, where)
+                if isinstance(node, ast.Name):
+                    self.assertNotIn(node.id, BARRED_WORDS, where)
+                    if hasattr(builtins, node.id):
+                        self.assertIn(node.id, CALLED_BUILTINS, where)
+                if isinstance(node, ast.Constant):
+                    self.assertNotIsInstance(node.value, (float, complex), where)
+                if isinstance(node, ast.FunctionDef):
+                    self.assertEqual(node.decorator_list, [], where)
+                    self.assertTrue(ast.get_docstring(node) or node.name == "__init__", where)
+
+
+if __name__ == "__main__":
+    unittest.main()
