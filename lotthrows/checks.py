@@ -1,4 +1,4 @@
-"""What the functions of the package ask of integers, sizes and kinds."""
+"""What the functions of the package ask of integers, sizes, kinds and certificates."""
 
 from lotthrows.errors import BadKind, BadNumber, BadSize
 
@@ -23,6 +23,16 @@ def is_size(thing):
 def is_kind(size, thing):
     """Tell whether any value is a kind of the size."""
     return is_within(thing, 0, size - 1)
+
+
+def are_kinds(size, things):
+    """Tell whether any values are all kinds of the size."""
+    return all(is_kind(size, thing) for thing in things)
+
+
+def is_marked(thing, mark, length):
+    """Tell whether any value is a tuple of so many items of which the first one is the mark."""
+    return isinstance(thing, tuple) and len(thing) == length and thing[0] == mark
 
 
 def need_size(thing):

@@ -1,12 +1,17 @@
 import unittest
 from itertools import permutations
 
-from lotthrows import decks, throws
-from lotthrows.errors import BadDeck, BadKind, BadNumber, BadOrder, BadSize, BadThrow
-from helpers import Case
+from lotthrows import decks, outcomes, rows, sheets, tables, throws
+from lotthrows.errors import (
+    BadDeck, BadDesk, BadKind, BadNumber, BadOrder, BadSheet, BadSize, BadTable, BadThrow, BadThrows,
+)
+from helpers import SORT, Case
+from test_form import INTERFACE
 
-SORT = (((0, 2), 1), ((1,), -1))
+BACK = (((1, 2), -1), ((0,), 1))
 DECK = (1, 0, 2, 1, 0)
+DESK = ("tray", "pile")
+TABLE = (("kept", "ahead", "kept"), ("behind", "turned", "behind"), ("kept", "ahead", "kept"))
 
 # The function, its arguments in the order of its parameters, and its result.
 CALLS = (
@@ -32,7 +37,41 @@ CALLS = (
     (throws.deck_after, {"throw": SORT, "deck": DECK}, (0, 2, 0, 1, 1)),
     (throws.throw_text, {"throw": SORT}, "02+ 1-"),
     (throws.read_throw, {"text": "02+ 1-"}, SORT),
+    (sheets.is_desk, {"thing": DESK}, True),
+    (sheets.is_desk, {"thing": [list(DESK), {0: DESK}]}, False),
+    (sheets.is_sheet, {"desk": DESK, "thing": (0, 1, 0)}, True),
+    (sheets.is_sheet, {"desk": DESK, "thing": [0, {}, None]}, False),
+    (sheets.throw_by, {"desk": DESK, "sheet": (0, 1, 0)}, SORT),
+    (sheets.gathered, {"desk": DESK, "sheet": (0, 1, 0), "deck": DECK}, ((1, 2, 4), (3, 0))),
+    (sheets.sheet_for, {"desk": DESK, "throw": SORT}, (0, 1, 0)),
+    (tables.is_table, {"thing": TABLE}, True),
+    (tables.is_table, {"thing": [list(TABLE), {0: TABLE}]}, False),
+    (tables.table_of, {"throw": SORT}, TABLE),
+    (tables.judge_table, {"table": TABLE}, ("throw", SORT)),
+    (tables.table_holds, {"table": TABLE, "thing": ("throw", SORT)}, True),
+    (tables.table_holds, {"table": TABLE, "thing": ["throw", [SORT]]}, False),
+    (tables.is_ring, {"table": (("kept", "kept"), ("kept", "turned")), "thing": (1, 0, 1)}, True),
+    (tables.is_ring, {"table": TABLE, "thing": [[0, 1, 2]]}, False),
+    (tables.order_by_table, {"table": TABLE, "deck": DECK}, (1, 2, 4, 3, 0)),
+    (tables.tables_number, {"size": 3}, 512),
+    (rows.both, {"one": SORT, "other": BACK}, (((1,), 1), ((2,), -1), ((0,), 1))),
+    (rows.row_of, {"size": 3, "throws": (SORT, BACK)}, (((1,), 1), ((2,), -1), ((0,), 1))),
+    (rows.power, {"throw": SORT, "n": 3}, SORT),
+    (rows.judge_undone, {"throw": SORT}, ("lost", 0, 1)),
+    (rows.undone_holds, {"throw": SORT, "thing": ("lost", 1, 2)}, True),
+    (rows.undone_holds, {"throw": SORT, "thing": ["lost", [1], 2]}, False),
+    (rows.judge_behind, {"first": SORT, "whole": BACK}, ("parted", 1, 2)),
+    (rows.judge_ahead, {"last": BACK, "whole": SORT}, ("set", 1, 0)),
+    (rows.behind_holds, {"first": SORT, "whole": BACK, "thing": ("parted", 1, 2)}, True),
+    (rows.behind_holds, {"first": SORT, "whole": BACK, "thing": ["parted", [1], 2]}, False),
+    (rows.ahead_holds, {"last": BACK, "whole": SORT, "thing": ("set", 1, 0)}, True),
+    (rows.ahead_holds, {"last": BACK, "whole": SORT, "thing": ["set", [1], 0]}, False),
+    (outcomes.can_come, {"throw": SORT, "deck": (0, 2, 1)}, True),
+    (outcomes.went_in, {"throw": SORT, "deck": (0, 2, 1)}, 3),
+    (outcomes.all_in, {"throw": SORT, "deck": (2, 0, 1), "most": 3}, ((1, 2, 0), (2, 0, 1), (2, 1, 0))),
 )
+# The parameters that are passed by name alone.
+NAMED = ("most",)
 
 # The function, and its parameters in order with a value that is none, and the error of each.
 REFUSALS = (
@@ -52,13 +91,48 @@ REFUSALS = (
     (throws.order_after, (("throw", [], BadThrow), ("deck", [[]], BadDeck))),
     (throws.deck_after, (("throw", [], BadThrow), ("deck", [[]], BadDeck))),
     (throws.throw_text, (("throw", [], BadThrow),)),
+    (sheets.is_sheet, (("desk", [], BadDesk), ("thing", [], None))),
+    (sheets.throw_by, (("desk", [], BadDesk), ("sheet", [[]], BadSheet))),
+    (sheets.gathered, (("desk", [], BadDesk), ("sheet", [[]], BadSheet), ("deck", {0: []}, BadDeck))),
+    (sheets.sheet_for, (("desk", [], BadDesk), ("throw", [[]], BadThrow))),
+    (tables.table_of, (("throw", [], BadThrow),)),
+    (tables.judge_table, (("table", [], BadTable),)),
+    (tables.table_holds, (("table", [], BadTable), ("thing", [[]], None))),
+    (tables.is_ring, (("table", [], BadTable), ("thing", [[]], None))),
+    (tables.order_by_table, (("table", [], BadTable), ("deck", [[]], BadDeck))),
+    (tables.tables_number, (("size", [], BadSize),)),
+    (rows.both, (("one", [], BadThrow), ("other", [[]], BadThrow))),
+    (rows.row_of, (("size", [], BadSize), ("throws", [[]], BadThrows))),
+    (rows.power, (("throw", [], BadThrow), ("n", [[]], BadNumber))),
+    (rows.judge_undone, (("throw", [], BadThrow),)),
+    (rows.undone_holds, (("throw", [], BadThrow), ("thing", [[]], None))),
+    (rows.judge_behind, (("first", [], BadThrow), ("whole", [[]], BadThrow))),
+    (rows.judge_ahead, (("last", [], BadThrow), ("whole", [[]], BadThrow))),
+    (rows.behind_holds, (("first", [], BadThrow), ("whole", [[]], BadThrow), ("thing", {0: []}, None))),
+    (rows.ahead_holds, (("last", [], BadThrow), ("whole", [[]], BadThrow), ("thing", {0: []}, None))),
+    (outcomes.can_come, (("throw", [], BadThrow), ("deck", [[]], BadDeck))),
+    (outcomes.went_in, (("throw", [], BadThrow), ("deck", [[]], BadDeck))),
+    (outcomes.all_in, (("throw", [], BadThrow), ("deck", [[]], BadDeck), ("most", {0: []}, BadNumber))),
 )
 
 
+def by_position(arguments):
+    """The arguments as they are passed by position, as far as they can be."""
+    placed = [value for name, value in arguments.items() if name not in NAMED]
+    return placed, {name: value for name, value in arguments.items() if name in NAMED}
+
+
 class ConventionsTest(Case):
+    def test_each_function_of_the_interface_is_called(self):
+        called = {(function.__module__, function.__name__) for function, _, _ in CALLS}
+        for name, functions in INTERFACE.items():
+            for function in functions:
+                self.assertIn(("lotthrows." + name, function), called)
+
     def test_by_position_and_by_name(self):
         for function, arguments, result in CALLS:
-            self.told(result, function(*arguments.values()))
+            placed, named = by_position(arguments)
+            self.told(result, function(*placed, **named))
             for names in permutations(arguments):
                 self.told(result, function(**{name: arguments[name] for name in names}))
 
@@ -87,9 +161,9 @@ class ConventionsTest(Case):
 
     def test_refusals_are_equal_whenever_they_come(self):
         for function, parameters in REFUSALS:
-            wrongs = [wrong for _, wrong, _ in parameters]
+            placed, named = by_position({name: wrong for name, wrong, _ in parameters})
             for _ in range(3):
-                self.refused(parameters[0][2], wrongs[0], function, *wrongs)
+                self.refused(parameters[0][2], placed[0], function, *placed, **named)
 
     def test_functions_can_take_what_functions_return(self):
         throw = throws.read_throw(throws.throw_text(throws.still(3)))

@@ -5,11 +5,8 @@ from lotthrows.decks import (
     counts_of, deck_text, is_deck, is_order, laid, opposite, read_deck, together, undone_order,
 )
 from lotthrows.errors import BadDeck, BadNumber, BadOrder, BadSize
-from helpers import INTEGERS, NOTHING_VALID, STRINGS, Case
+from helpers import INTEGERS, NO_DECKS, NO_NUMBERS, NO_SIZES, NOTHING_VALID, STRINGS, Case
 
-NO_SIZES = NOTHING_VALID + STRINGS + ((), (0,), (1,), 0, -1, 9, 10, 10 ** 99, -10 ** 99)
-NO_NUMBERS = NOTHING_VALID + STRINGS + ((), (0,), -1, -2, -10 ** 99)
-NO_DECKS = NOTHING_VALID + STRINGS + INTEGERS + ((0,) * 61, (8,), (0, 8), (0, 1, 9), (7, 10 ** 99), [7] * 60)
 NO_ORDERS = NOTHING_VALID + STRINGS + INTEGERS + (
     (1,), (0, 0), (1, 2), (0, 2), (0, 1, 1), (0, 1, 3), (-1, 0), (0, 1, 2, True), (True, False), (False,),
     (0, True), [1, 0], tuple(range(1, 60)), tuple(range(59)) + (58,),

@@ -20,6 +20,23 @@ INTERFACE = {
         "deck_after": "(throw, deck)", "throw_text": "(throw)", "read_throw": "(text)",
     },
 }
+INTERFACE["sheets"] = {
+    "is_desk": "(thing)", "is_sheet": "(desk, thing)", "throw_by": "(desk, sheet)",
+    "gathered": "(desk, sheet, deck)", "sheet_for": "(desk, throw)",
+}
+INTERFACE["tables"] = {
+    "is_table": "(thing)", "table_of": "(throw)", "judge_table": "(table)", "table_holds": "(table, thing)",
+    "is_ring": "(table, thing)", "order_by_table": "(table, deck)", "tables_number": "(size)",
+}
+INTERFACE["rows"] = {
+    "both": "(one, other)", "row_of": "(size, throws)", "power": "(throw, n)", "judge_undone": "(throw)",
+    "undone_holds": "(throw, thing)", "judge_behind": "(first, whole)", "judge_ahead": "(last, whole)",
+    "behind_holds": "(first, whole, thing)", "ahead_holds": "(last, whole, thing)",
+}
+INTERFACE["outcomes"] = {
+    "can_come": "(throw, deck)", "went_in": "(throw, deck)", "all_in": "(throw, deck, *, most=256)",
+}
+LIBRARY = {"math": ("gcd", "lcm", "isqrt", "comb", "perm", "factorial")}
 CALLED_BUILTINS = (
     "len range enumerate zip min max sum abs sorted reversed int str bool list tuple dict set isinstance ord repr any "
     "all divmod Exception ValueError TypeError KeyError IndexError LookupError"
@@ -51,12 +68,19 @@ def bound_names(tree):
             yield node.id
 
 
-def imported_names(tree):
+def all_imports(tree):
     """The pairs (module, name) of all imports."""
     for node in ast.walk(tree):
         if isinstance(node, ast.ImportFrom):
             for alias in node.names:
                 yield node.module, alias.name
+
+
+def imported_names(tree):
+    """The pairs (module, name) of all imports from the package."""
+    for module, name in all_imports(tree):
+        if module not in LIBRARY:
+            yield module, name
 
 
 class InterfaceTest(unittest.TestCase):
@@ -88,9 +112,11 @@ class FormTest(unittest.TestCase):
     def test_imports_are_full_and_used_and_name_the_defining_file(self):
         for path, text, tree in sources():
             used = {node.id for node in ast.walk(tree) if isinstance(node, ast.Name)}
+            for module, name in all_imports(tree):
+                self.assertIn(name, used, path)
+                self.assertIn(name, LIBRARY.get(module, (name,)), path)
             for module, name in imported_names(tree):
                 self.assertRegex(module, r"\Alotthrows\.[a-z]+\Z", path)
-                self.assertIn(name, used, path)
                 source = ast.parse((PACKAGE / (module.split(".")[1] + ".py")).read_text(encoding="utf-8"))
                 defined = [node.name for node in source.body if isinstance(node, (ast.FunctionDef, ast.ClassDef))]
                 defined += [target.id for node in source.body if isinstance(node, ast.Assign) for target in node.targets]
@@ -109,7 +135,7 @@ class FormTest(unittest.TestCase):
         for path, text, tree in sources():
             top = [node.name for node in tree.body if isinstance(node, (ast.FunctionDef, ast.ClassDef))]
             taken = {node.name for node in tree.body if isinstance(node, ast.ClassDef)}
-            taken |= {name for _, name in imported_names(tree)}
+            taken |= {name for _, name in all_imports(tree)}
             self.assertEqual(len(top), len(set(top)), path)
             for name in (*top, *bound_names(tree)):
                 self.assertFalse(hasattr(builtins, name), (path, name))

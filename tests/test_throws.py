@@ -1,52 +1,14 @@
 import unittest
-from itertools import permutations, product
+from itertools import product
 
 from lotthrows.decks import laid
 from lotthrows.errors import BadDeck, BadKind, BadSize, BadThrow
 from lotthrows.throws import (
     deck_after, is_throw, lot_of, order_after, read_throw, size_of, still, throw_text, turning, way_of,
 )
-from helpers import INTEGERS, NOTHING_VALID, STRINGS, Case
+from helpers import INTEGERS, NO_SIZES, NO_THROWS, NOTHING_VALID, SINGLES, SORT, STRINGS, THROWS, Case
 
-SORT = (((0, 2), 1), ((1,), -1))
-SINGLES = tuple(((kind,), 1 - kind % 2 * 2) for kind in range(8))
-NO_SIZES = NOTHING_VALID + STRINGS + ((), (0,), (1,), 0, -1, 9, 10, 10 ** 99, -10 ** 99)
-NO_THROWS = NOTHING_VALID + STRINGS + INTEGERS + (
-    (),
-    ((),), (((), 1),), (((0,), 1), ((), 1)),                              # a lot without a kind
-    (((1,), 1),), (((0, 2), 1),), (((0,), 1), ((2,), 1)),                 # a kind is lacking
-    (((0, 1), 1), ((1,), 1)), (((0,), 1), ((0,), 1)), (((0, 0), 1),),     # a kind stands twice
-    (((1, 0), 1),), (((0, 2, 1), 1),),                                    # a lot is not ascending
-    (((0,), 0),), (((0,), 2),), (((0,), -2),), (((0,), 10 ** 99),),       # other signs
-    (((0,), True),), (((0,), None),), (((0,), "+"),), (((0,), (1,)),), (((0,), [1]),),
-    (((False,), 1),), (((0, True), 1),), (((0,), 1), ((True,), 1)),       # bools for kinds
-    (((-1,), 1), ((0,), 1)), (((-1, 0), 1),), (((0, 10 ** 99), 1),),
-    ((tuple(range(9)), 1),), (((8,), 1), (tuple(range(8)), 1)),           # nine kinds
-    tuple(((kind,), 1) for kind in range(9)), ((tuple(range(2000)), 1),),
-    [((0,), 1)], ([(0,), 1],), (([0], 1),), {((0,), 1): 1}, (((0,), 1), [(1,), 1]),
-    ((0,), 1), (((0,), 1, 1),), (((0,),),), ((1, (0,)),), (((0,), 1), None), (((0,), 1), 1),
-    ((((0,),), 1),), ((((0,), 1), 1),), (("0", 1),), ((0, 1),), ((None, 1),), (({0: 1}, 1),), (((0, "1"), 1),),
-    (((0, None), 1),), (((0, (1,)), 1),), ("0+",), ("01", 1), (((0,), 1), "1+"),
-)
 SOME_THROWS = (still(1), turning(1), still(8), turning(8), SINGLES, SORT, SINGLES[::-1])
-
-
-def all_throws(size):
-    """All throws of a size, made by trying all rows of all kinds and all places to part them."""
-    found = set()
-    for kinds in permutations(range(size)):
-        for cuts in product((False, True), repeat=size - 1):
-            lots = [[kinds[0]]]
-            for kind, cut in zip(kinds[1:], cuts):
-                if cut:
-                    lots.append([])
-                lots[-1].append(kind)
-            for signs in product((1, -1), repeat=len(lots)):
-                found.add(tuple((tuple(sorted(lot)), sign) for lot, sign in zip(lots, signs)))
-    return sorted(found)
-
-
-THROWS = {size: all_throws(size) for size in (1, 2, 3)}
 
 
 class IsThrowTest(Case):
