@@ -34,22 +34,21 @@ def went_in(throw, deck):
     return number
 
 
-def merged(rows):
-    """Return all tuples in which the items of the rows stand, those of each row in their order."""
-    # Each tuple goes with how many items of each row it has.
-    found = [((), (0,) * len(rows))]
-    for _ in range(sum([len(row) for row in rows])):
-        found = [longer for items, taken in found for longer in one_longer(rows, items, taken)]
-    return [items for items, _ in found]
-
-
-def one_longer(rows, items, taken):
-    """Return what comes of a tuple if the next item of any row is put behind it."""
+def one_card_longer(rows, deck, taken):
+    """Return what comes of a deck, and of how many cards it has of each row, if any row's next card is laid behind."""
     longer = []
     for at, row in enumerate(rows):
         if taken[at] < len(row):
-            longer.append((items + (row[taken[at]],), taken[:at] + (taken[at] + 1,) + taken[at + 1:]))
+            longer.append((deck + (row[taken[at]],), taken[:at] + (taken[at] + 1,) + taken[at + 1:]))
     return longer
+
+
+def laid_among(rows):
+    """Return all decks in which the cards of the rows lie among one another, those of each row in their order."""
+    found = [((), (0,) * len(rows))]
+    for _ in range(sum([len(row) for row in rows])):
+        found = [longer for deck, taken in found for longer in one_card_longer(rows, deck, taken)]
+    return [deck for deck, _ in found]
 
 
 def all_in(throw, deck, *, most=256):
@@ -60,4 +59,4 @@ def all_in(throw, deck, *, most=256):
         raise TooMany(most)
     if number == 0:
         return ()
-    return tuple(sorted(merged(cards_in_lots(throw, deck))))
+    return tuple(sorted(laid_among(cards_in_lots(throw, deck))))

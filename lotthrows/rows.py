@@ -29,8 +29,7 @@ def joined(one, other):
 
 def need_throws_of_one_size(one, other):
     """Raise BadThrow with the first value that is no throw, then OtherSize with the second throw."""
-    need_throw(one)
-    need_throw(other)
+    # That they are throws is asked by size_of.
     if size_of(one) != size_of(other):
         raise OtherSize(other)
 

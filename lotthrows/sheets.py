@@ -3,11 +3,11 @@
 from lotthrows.checks import is_size, is_within
 from lotthrows.decks import need_deck
 from lotthrows.errors import BadDesk, BadSheet
-from lotthrows.throws import KEPT, TURNED, cards_of_lot, need_throw, size_of
+from lotthrows.throws import cards_of_lot, size_of
 
 MOST_PLACES = 6
 PLACES = ("tray", "pile")
-SIGN_OF_PLACE = {"tray": KEPT, "pile": TURNED}
+SIGN_OF_PLACE = {"tray": 1, "pile": -1}
 
 
 def is_desk(thing):
@@ -71,7 +71,6 @@ def first_place(desk, sign, start):
 def sheet_for(desk, throw):
     """Return the least sheet whose throw is the throw, None if there is none."""
     need_desk(desk)
-    need_throw(throw)
     sheet = [0] * size_of(throw)
     start = 0
     for lot, sign in throw:

@@ -1,9 +1,10 @@
 import unittest
 from itertools import permutations
 
-from lotthrows import decks, outcomes, rows, sheets, tables, throws
+from lotthrows import decks, folded, outcomes, plans, rows, sheets, tables, throws, words
 from lotthrows.errors import (
-    BadDeck, BadDesk, BadKind, BadNumber, BadOrder, BadSheet, BadSize, BadTable, BadThrow, BadThrows,
+    BadChoice, BadCode, BadDeck, BadDesk, BadDesks, BadKind, BadNumber, BadOrder, BadPlan, BadSheet, BadSize, BadTable,
+    BadThrow, BadThrows, BadWord,
 )
 from helpers import SORT, Case
 from test_form import INTERFACE
@@ -11,6 +12,8 @@ from test_form import INTERFACE
 BACK = (((1, 2), -1), ((0,), 1))
 DECK = (1, 0, 2, 1, 0)
 DESK = ("tray", "pile")
+DESKS = (("tray", "pile", "tray"), ("pile", "pile"))
+CHOICE = ((((0, 1), -1),), (((0,), 1), ((1,), 1)), (((0, 1), 1),), (((0, 1), 1),), (((0, 1), 1),))
 TABLE = (("kept", "ahead", "kept"), ("behind", "turned", "behind"), ("kept", "ahead", "kept"))
 
 # The function, its arguments in the order of its parameters, and its result.
@@ -69,6 +72,38 @@ CALLS = (
     (outcomes.can_come, {"throw": SORT, "deck": (0, 2, 1)}, True),
     (outcomes.went_in, {"throw": SORT, "deck": (0, 2, 1)}, 3),
     (outcomes.all_in, {"throw": SORT, "deck": (2, 0, 1), "most": 3}, ((1, 2, 0), (2, 0, 1), (2, 1, 0))),
+    (words.is_word, {"thing": "abba"}, True),
+    (words.is_word, {"thing": [{0: "a"}]}, False),
+    (words.is_choice, {"thing": CHOICE}, True),
+    (words.is_choice, {"thing": [list(CHOICE), {0: CHOICE}]}, False),
+    (words.throw_of, {"word": "ab", "choice": CHOICE}, (((0,), -1), ((1,), -1))),
+    (words.last_stands, {"word": "abcacb"}, "acb"),
+    (words.judge_words, {"one": "aaa", "other": "a"}, ("alike",)),
+    (words.words_hold, {"one": "ab", "other": "ba", "thing": ("apart", CHOICE, (0, 1))}, True),
+    (words.words_hold, {"one": "ab", "other": "ba", "thing": ["apart", [CHOICE], [0, 1]]}, False),
+    (words.are_alike_kept, {"one": "abab", "other": "ab"}, True),
+    (words.plain_word, {"word": "abbabb"}, "aabb"),
+    (words.plain_number, {"n": 3}, 439),
+    (words.all_plain, {"n": 1}, ("", "a", "aa")),
+    (folded.are_desks, {"thing": DESKS}, True),
+    (folded.are_desks, {"thing": [list(DESKS), {0: DESKS}]}, False),
+    (folded.is_code, {"desks": DESKS, "thing": (2, 0)}, True),
+    (folded.is_code, {"desks": DESKS, "thing": [2, {0: 0}]}, False),
+    (folded.sign_of, {"desks": DESKS, "code": (1, 1)}, 1),
+    (folded.is_ahead, {"desks": DESKS, "one": (2, 0), "other": (1, 0)}, True),
+    (folded.codes_number, {"desks": DESKS}, 6),
+    (folded.code_at, {"desks": DESKS, "n": 5}, (0, 1)),
+    (folded.position_of, {"desks": DESKS, "code": (0, 1)}, 5),
+    (folded.folded_word, {"desks": DESKS}, (-1, 1, -1, -1, 1, -1)),
+    (plans.is_plan, {"desks": DESKS, "thing": ((0, 1, 2), (1, 1, 0))}, True),
+    (plans.is_plan, {"desks": DESKS, "thing": [[0, 1, 2], {0: 1}]}, False),
+    (plans.throw_of_plan, {"size": 3, "desks": DESKS, "plan": ((0, 2, 0), (0, 1, 0))}, (((0, 2), -1), ((1,), -1))),
+    (plans.judge_made, {"desks": DESKS, "throw": SORT}, ("codes", ((1, 0), (0, 0)))),
+    (plans.made_holds, {"desks": DESKS, "throw": SORT, "thing": ("codes", ((1, 0), (0, 1)))}, True),
+    (plans.made_holds, {"desks": DESKS, "throw": SORT, "thing": ["short", [1]]}, False),
+    (plans.plan_for, {"desks": DESKS, "throw": SORT}, ((1, 0, 1), (0, 0, 0))),
+    (plans.fewest, {"desk": DESK, "throw": SORT}, 1),
+    (plans.sign_rows, {"desks": DESKS, "m": 2}, 4),
 )
 # The parameters that are passed by name alone.
 NAMED = ("most",)
@@ -113,6 +148,28 @@ REFUSALS = (
     (outcomes.can_come, (("throw", [], BadThrow), ("deck", [[]], BadDeck))),
     (outcomes.went_in, (("throw", [], BadThrow), ("deck", [[]], BadDeck))),
     (outcomes.all_in, (("throw", [], BadThrow), ("deck", [[]], BadDeck), ("most", {0: []}, BadNumber))),
+    (words.throw_of, (("word", [], BadWord), ("choice", [[]], BadChoice))),
+    (words.last_stands, (("word", [], BadWord),)),
+    (words.judge_words, (("one", [], BadWord), ("other", [[]], BadWord))),
+    (words.words_hold, (("one", [], BadWord), ("other", [[]], BadWord), ("thing", {0: []}, None))),
+    (words.are_alike_kept, (("one", [], BadWord), ("other", [[]], BadWord))),
+    (words.plain_word, (("word", [], BadWord),)),
+    (words.plain_number, (("n", [], BadNumber),)),
+    (words.all_plain, (("n", [], BadNumber),)),
+    (folded.is_code, (("desks", [], BadDesks), ("thing", [[]], None))),
+    (folded.sign_of, (("desks", [], BadDesks), ("code", [[]], BadCode))),
+    (folded.is_ahead, (("desks", [], BadDesks), ("one", [[]], BadCode), ("other", {0: []}, BadCode))),
+    (folded.codes_number, (("desks", [], BadDesks),)),
+    (folded.code_at, (("desks", [], BadDesks), ("n", [[]], BadNumber))),
+    (folded.position_of, (("desks", [], BadDesks), ("code", [[]], BadCode))),
+    (folded.folded_word, (("desks", [], BadDesks),)),
+    (plans.is_plan, (("desks", [], BadDesks), ("thing", [[]], None))),
+    (plans.throw_of_plan, (("size", [], BadSize), ("desks", [[]], BadDesks), ("plan", {0: []}, BadPlan))),
+    (plans.judge_made, (("desks", [], BadDesks), ("throw", [[]], BadThrow))),
+    (plans.made_holds, (("desks", [], BadDesks), ("throw", [[]], BadThrow), ("thing", {0: []}, None))),
+    (plans.plan_for, (("desks", [], BadDesks), ("throw", [[]], BadThrow))),
+    (plans.fewest, (("desk", [], BadDesk), ("throw", [[]], BadThrow))),
+    (plans.sign_rows, (("desks", [], BadDesks), ("m", [[]], BadNumber))),
 )
 
 
@@ -168,7 +225,8 @@ class ConventionsTest(Case):
     def test_functions_can_take_what_functions_return(self):
         throw = throws.read_throw(throws.throw_text(throws.still(3)))
         order = throws.order_after(throw, decks.read_deck("-"))
-        self.told(((), (0, 0, 0)), (decks.laid((), decks.opposite(decks.undone_order(order))), decks.counts_of(3, order)))
+        self.told(((), (0, 0, 0)),
+                  (decks.laid((), decks.opposite(decks.undone_order(order))), decks.counts_of(3, order)))
 
 
 if __name__ == "__main__":

@@ -5,7 +5,9 @@ import unittest
 from lotthrows.decks import (
     counts_of, deck_text, is_deck, is_order, laid, opposite, read_deck, together, undone_order,
 )
+from lotthrows.folded import are_desks, code_at, codes_number, folded_word, is_ahead, is_code, position_of, sign_of
 from lotthrows.outcomes import all_in, can_come, went_in
+from lotthrows.plans import fewest, judge_made, made_holds, plan_for, sign_rows, throw_of_plan
 from lotthrows.rows import behind_holds, both, judge_ahead, judge_behind, judge_undone, power, row_of, undone_holds
 from lotthrows.sheets import gathered, is_desk, is_sheet, sheet_for, throw_by
 from lotthrows.tables import (
@@ -13,6 +15,9 @@ from lotthrows.tables import (
 )
 from lotthrows.throws import (
     deck_after, is_throw, lot_of, order_after, read_throw, size_of, still, throw_text, turning, way_of,
+)
+from lotthrows.words import (
+    all_plain, are_alike_kept, is_word, judge_words, last_stands, plain_number, plain_word, throw_of, words_hold,
 )
 from helpers import SORT, Case
 
@@ -43,7 +48,8 @@ class ExamplesTest(Case):
         desk = ("tray", "pile")
         self.told(
             [True, False, (((0, 2), 1), ((1,), -1)), ((1, 2, 4), (3, 0)), (0, 1, 0), None],
-            [is_desk(desk), is_sheet(desk, (0, 2)), throw_by(desk, (0, 1, 0)), gathered(desk, (0, 1, 0), (1, 0, 2, 1, 0)),
+            [is_desk(desk), is_sheet(desk, (0, 2)), throw_by(desk, (0, 1, 0)),
+             gathered(desk, (0, 1, 0), (1, 0, 2, 1, 0)),
              sheet_for(desk, SORT), sheet_for(desk, (((1,), -1), ((0,), 1)))])
 
     def test_part_3(self):
@@ -51,12 +57,14 @@ class ExamplesTest(Case):
         self.told(
             [(('kept', 'ahead', 'kept'), ('behind', 'turned', 'behind'), ('kept', 'ahead', 'kept')),
              ('throw', (((0, 2), 1), ((1,), -1))), True, 'ring', True, True, False],
-            [table_of(SORT), judge_table(table_of(SORT)), is_table(mixed), judge_table(mixed)[0], is_ring(mixed, (2, 1, 0)),
+            [table_of(SORT), judge_table(table_of(SORT)), is_table(mixed), judge_table(mixed)[0],
+             is_ring(mixed, (2, 1, 0)),
              is_ring(mixed, (0, 1, 2)), is_ring(mixed, (0, 2, 1))])
         self.told(
             [(0, 1, 2), None, (1, 2, 4, 3, 0), 512, True],
             [order_by_table(mixed, (0, 1, 1)), order_by_table(mixed, (0, 1, 2)),
-             order_by_table(table_of(SORT), (1, 0, 2, 1, 0)), tables_number(3), table_holds(mixed, ("ring", (2, 1, 0)))])
+             order_by_table(table_of(SORT), (1, 0, 2, 1, 0)), tables_number(3),
+             table_holds(mixed, ("ring", (2, 1, 0)))])
 
     def test_part_4_rows(self):
         back = (((1, 2), -1), ((0,), 1))
@@ -75,6 +83,52 @@ class ExamplesTest(Case):
             [True, False, 3, ((1, 2, 0), (2, 0, 1), (2, 1, 0)), 0],
             [can_come(SORT, (0, 2, 1)), can_come(SORT, (0, 1, 2)), went_in(SORT, (2, 0, 1)), all_in(SORT, (2, 0, 1)),
              went_in(SORT, (0, 1, 2))])
+
+    def test_part_5(self):
+        self.told(
+            [True, False, 'acb', 'ab', 'abba', 'bab', 'aabb'],
+            [is_word("abba"), is_word("f"), last_stands("abcacb"), plain_word("aaab"), plain_word("abba"),
+             plain_word("bab"),
+             plain_word("abbabb")])
+        self.told(
+            [('alike',), 'apart', 'apart', True, 21, 439, ('', 'a', 'aa')],
+            [judge_words("aaa", "a"), judge_words("ab", "ba")[0], judge_words("abab", "ab")[0],
+             are_alike_kept("abab", "ab"), plain_number(2), plain_number(3), all_plain(1)])
+        turn, part, stay = (((0, 1), -1),), (((0,), 1), ((1,), 1)), (((0, 1), 1),)
+        choice = (turn, part, stay, stay, stay)
+        self.told(
+            [(((0,), -1), ((1,), -1)), (((1,), -1), ((0,), -1)), True, False],
+            [throw_of("ab", choice), throw_of("ba", choice), words_hold("ab", "ba", ("apart", choice, (0, 1))),
+             words_hold("aa", "", ("apart", choice, (0, 1)))])
+
+    def test_part_6_folded(self):
+        one, piles = ("tray", "pile", "tray"), ("pile", "pile")
+        self.told(
+            [(1, -1, 1), (1, 1, 1, 1), (-1, 1, -1, -1, 1, -1), 9, (2, 0), (0, 1), 0],
+            [folded_word((one,)), folded_word((piles, piles)), folded_word((one, piles)), codes_number((one, one)),
+             code_at((one, piles), 0), code_at((one, piles), 5), position_of((piles, piles), (1, 0))])
+        self.told(
+            [1, True, True, False, False],
+            [sign_of((one, piles), (1, 1)), is_ahead((one, piles), (2, 0), (1, 0)),
+             is_ahead((one, one), (2, 0), (0, 2)),
+             is_code((one,), (3,)), are_desks((one, ()))])
+
+    def test_part_6_plans(self):
+        one, piles = ("tray", "pile", "tray"), ("pile", "pile")
+        singles, turned = (((0,), 1), ((1,), 1), ((2,), 1)), (((0,), -1), ((1,), -1))
+        self.told(
+            [3, 2, 2, None, 1, 2],
+            [fewest(("tray", "pile"), singles), fewest(piles, singles), fewest(("tray", "tray"), singles),
+             fewest(("tray", "tray"), turned), fewest(piles, turned), fewest(("tray", "pile"), turned)])
+        self.told(
+            [('short', 2), ('short', 0), ('codes', ((0,), (1,), (2,))), True, 3],
+            [judge_made((one,), singles), judge_made((piles,), singles),
+             judge_made((one,), (((0,), 1), ((1,), -1), ((2,), 1))),
+             made_holds((piles, piles), singles, ("codes", ((1, 0), (0, 0), (0, 1)))), sign_rows((one,), 2)])
+        self.told(
+            [(((1,), 1), ((0,), -1)), ((0, 1, 0, 2),)],
+            [throw_of_plan(2, ((("tray", "pile"),) * 2), ((0, 1), (1, 1))),
+             plan_for((one,), (((0, 2), 1), ((1,), -1), ((3,), 1)))])
 
 
 if __name__ == "__main__":

@@ -19,22 +19,37 @@ INTERFACE = {
         "lot_of": "(throw, kind)", "way_of": "(throw, a, b)", "order_after": "(throw, deck)",
         "deck_after": "(throw, deck)", "throw_text": "(throw)", "read_throw": "(text)",
     },
-}
-INTERFACE["sheets"] = {
-    "is_desk": "(thing)", "is_sheet": "(desk, thing)", "throw_by": "(desk, sheet)",
-    "gathered": "(desk, sheet, deck)", "sheet_for": "(desk, throw)",
-}
-INTERFACE["tables"] = {
-    "is_table": "(thing)", "table_of": "(throw)", "judge_table": "(table)", "table_holds": "(table, thing)",
-    "is_ring": "(table, thing)", "order_by_table": "(table, deck)", "tables_number": "(size)",
-}
-INTERFACE["rows"] = {
-    "both": "(one, other)", "row_of": "(size, throws)", "power": "(throw, n)", "judge_undone": "(throw)",
-    "undone_holds": "(throw, thing)", "judge_behind": "(first, whole)", "judge_ahead": "(last, whole)",
-    "behind_holds": "(first, whole, thing)", "ahead_holds": "(last, whole, thing)",
-}
-INTERFACE["outcomes"] = {
-    "can_come": "(throw, deck)", "went_in": "(throw, deck)", "all_in": "(throw, deck, *, most=256)",
+    "sheets": {
+        "is_desk": "(thing)", "is_sheet": "(desk, thing)", "throw_by": "(desk, sheet)",
+        "gathered": "(desk, sheet, deck)", "sheet_for": "(desk, throw)",
+    },
+    "tables": {
+        "is_table": "(thing)", "table_of": "(throw)", "judge_table": "(table)", "table_holds": "(table, thing)",
+        "is_ring": "(table, thing)", "order_by_table": "(table, deck)", "tables_number": "(size)",
+    },
+    "rows": {
+        "both": "(one, other)", "row_of": "(size, throws)", "power": "(throw, n)", "judge_undone": "(throw)",
+        "undone_holds": "(throw, thing)", "judge_behind": "(first, whole)", "judge_ahead": "(last, whole)",
+        "behind_holds": "(first, whole, thing)", "ahead_holds": "(last, whole, thing)",
+    },
+    "outcomes": {
+        "can_come": "(throw, deck)", "went_in": "(throw, deck)", "all_in": "(throw, deck, *, most=256)",
+    },
+    "words": {
+        "is_word": "(thing)", "is_choice": "(thing)", "throw_of": "(word, choice)", "last_stands": "(word)",
+        "judge_words": "(one, other)", "words_hold": "(one, other, thing)", "are_alike_kept": "(one, other)",
+        "plain_word": "(word)", "plain_number": "(n)", "all_plain": "(n)",
+    },
+    "folded": {
+        "are_desks": "(thing)", "is_code": "(desks, thing)", "sign_of": "(desks, code)",
+        "is_ahead": "(desks, one, other)", "codes_number": "(desks)", "code_at": "(desks, n)",
+        "position_of": "(desks, code)", "folded_word": "(desks)",
+    },
+    "plans": {
+        "is_plan": "(desks, thing)", "throw_of_plan": "(size, desks, plan)", "judge_made": "(desks, throw)",
+        "made_holds": "(desks, throw, thing)", "plan_for": "(desks, throw)", "fewest": "(desk, throw)",
+        "sign_rows": "(desks, m)",
+    },
 }
 LIBRARY = {"math": ("gcd", "lcm", "isqrt", "comb", "perm", "factorial")}
 CALLED_BUILTINS = (
@@ -44,8 +59,8 @@ CALLED_BUILTINS = (
 BARRED_WORDS = (
     "register mro elements open input law version_info with_traceback add_note type typing typing_extensions enum Enum "
     "IntEnum StrEnum Flag IntFlag Generic Protocol ABC ABCMeta namedtuple NamedTuple TypedDict TYPE_CHECKING "
-    "abstractmethod attrgetter compile copyright credits dir eval exec exit gc globals help id importlib license locals "
-    "methodcaller os quit setattr super vars sys"
+    "abstractmethod attrgetter compile copyright credits dir eval exec exit gc globals help id importlib license "
+    "locals methodcaller os quit setattr super vars sys"
 ).split()
 BARRED_NODES = (
     ast.AsyncFunctionDef, ast.Global, ast.Div, ast.Set, ast.SetComp, ast.Import, ast.Await, ast.AnnAssign, ast.TryStar,
@@ -119,11 +134,14 @@ class FormTest(unittest.TestCase):
                 self.assertRegex(module, r"\Alotthrows\.[a-z]+\Z", path)
                 source = ast.parse((PACKAGE / (module.split(".")[1] + ".py")).read_text(encoding="utf-8"))
                 defined = [node.name for node in source.body if isinstance(node, (ast.FunctionDef, ast.ClassDef))]
-                defined += [target.id for node in source.body if isinstance(node, ast.Assign) for target in node.targets]
+                assigned = [node for node in source.body if isinstance(node, ast.Assign)]
+                defined += [target.id for node in assigned for target in node.targets]
                 self.assertIn(name, defined, path)
 
     def test_no_two_files_import_from_each_other(self):
-        reached = {path.stem: {module.split(".")[1] for module, _ in imported_names(tree)} for path, _, tree in sources()}
+        reached = {}
+        for path, _, tree in sources():
+            reached[path.stem] = {module.split(".")[1] for module, _ in imported_names(tree)}
         for _ in reached:
             for name in reached:
                 for other in list(reached[name]):

@@ -134,7 +134,8 @@ class RowTest(Case):
 
     def test_values_near_to_a_row_of_throws(self):
         for thing in near((still(1), turning(1))):
-            right = isinstance(thing, tuple) and all(repr(throw) in ("(((0,), 1),)", "(((0,), -1),)") for throw in thing)
+            right = isinstance(thing,
+                               tuple) and all(repr(throw) in ("(((0,), 1),)", "(((0,), -1),)") for throw in thing)
             if right:
                 self.told(turning(1) if thing.count(turning(1)) % 2 else still(1), row_of(1, thing))
             else:
@@ -168,7 +169,8 @@ class PowerTest(Case):
 
 class UndoneTest(Case):
     def test_the_examples(self):
-        self.told([('undone', (((0, 1), -1),)), True], [judge_undone((((0, 1), -1),)), undone_holds(SORT, ("lost", 0, 1))])
+        self.told([('undone', (((0, 1), -1),)), True],
+                  [judge_undone((((0, 1), -1),)), undone_holds(SORT, ("lost", 0, 1))])
 
     def test_just_the_right_certificates_hold(self):
         candidates = [("undone", throw) for throw in (*SMALL, SORT, still(3), turning(3), SINGLES)]
@@ -190,10 +192,13 @@ class UndoneTest(Case):
 
     def test_large_sizes(self):
         self.told([("undone", still(8)), ("undone", turning(8))], [judge_undone(still(8)), judge_undone(turning(8))])
-        self.told([False, False], [undone_holds(still(8), ("undone", turning(8))), undone_holds(still(8), ("lost", 0, 7))])
+        self.told([False, False],
+                  [undone_holds(still(8), ("undone", turning(8))), undone_holds(still(8), ("lost", 0, 7))])
         self.told("lost", judge_undone(SINGLES[::-1])[0])
-        self.told([True, False, False, False], [undone_holds(SINGLES, ("lost", 0, 7)), undone_holds(SINGLES, ("lost", 7, 0)),
-                                                undone_holds(SINGLES, ("lost", 0, 8)), undone_holds(SINGLES, ("lost", 3, 3))])
+        self.told([True, False, False, False],
+                  [undone_holds(SINGLES, ("lost", 0, 7)), undone_holds(SINGLES, ("lost", 7, 0)),
+                                                undone_holds(SINGLES, ("lost", 0, 8)),
+                                                undone_holds(SINGLES, ("lost", 3, 3))])
 
     def test_any_value_that_is_no_throw(self):
         for throw in NO_THROWS:
@@ -276,7 +281,8 @@ class WantedTest(Case):
         self.told([True, False], [ahead_holds(SINGLES[::-1], still(8), ("set", 5, 2)),
                                   ahead_holds(SINGLES[::-1], still(8), ("set", 2, 5))])
         self.told([1, 0], [lot_of(SORT, 1), lot_of(SORT, 2)])
-        self.told([True, False], [ahead_holds(SORT, still(3), ("set", 2, 1)), ahead_holds(SORT, still(3), ("set", 1, 2))])
+        self.told([True, False],
+                  [ahead_holds(SORT, still(3), ("set", 2, 1)), ahead_holds(SORT, still(3), ("set", 1, 2))])
 
     def test_any_value_that_is_no_throw(self):
         for throw in NO_THROWS:

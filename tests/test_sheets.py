@@ -14,7 +14,8 @@ DESKS = [desk for places in range(1, 4) for desk in product(("tray", "pile"), re
 SOME_DESKS = (*DESKS, SIX, ("tray",) * 6, ("pile",) * 6, SIX[::-1])
 NO_DESKS = NOTHING_VALID + STRINGS + INTEGERS + (
     (), ("tray",) * 7, ("pile",) * 2000, SIX + ("tray",), ["tray"], ["tray", "pile"], "tray", "pile", ("Tray",),
-    ("trays",), ("tray ",), (" pile",), ("pile\n",), ("",), ("tray", "pil"), ("tray", None), ("tray", 1), ("tray", True),
+    ("trays",), ("tray ",), (" pile",), ("pile\n",), ("",), ("tray", "pil"), ("tray", None), ("tray", 1),
+    ("tray", True),
     (("tray",),), (("tray", "pile"),), ("tray", ("pile",)), ("tray", ["pile"]), {"tray": 1}, ({"tray": "pile"},),
     ("t", "r", "a", "y"), (b"tray",), ("kept", "turned"), (1, -1), ("tray", []),
 )
@@ -171,7 +172,8 @@ class SheetForTest(Case):
         self.told(None, sheet_for(SIX[::-1], SINGLES[:6]))
         self.told((1, 2, 3, 4, 5), sheet_for(SIX[::-1], SINGLES[:5]))
         self.told((5,) * 8, sheet_for(("tray",) * 5 + ("pile",), ((tuple(range(8)), -1),)))
-        self.told((2, 2, 2, 2, 0, 0, 0, 0), sheet_for(("pile", "tray", "pile"), (((4, 5, 6, 7), -1), ((0, 1, 2, 3), -1))))
+        self.told((2, 2, 2, 2, 0, 0, 0, 0),
+                  sheet_for(("pile", "tray", "pile"), (((4, 5, 6, 7), -1), ((0, 1, 2, 3), -1))))
 
     def test_any_value_that_is_no_desk(self):
         for desk in NO_DESKS:

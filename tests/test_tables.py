@@ -19,10 +19,12 @@ BY_TWO_OF_A_KIND = (("kept", "kept"), ("kept", "turned"))
 NO_TABLES = NOTHING_VALID + STRINGS + INTEGERS + (
     (), ((),), ("kept",), (("ahead",),), (("behind",),), (("Kept",),), (("kept ",),), ((None,),), ((1,),), ((True,),),
     (("kept", "kept"),), (("kept",), ("kept",)), [("kept",)], (["kept"],), [["kept"]], ((("kept",),),), {"kept": 1},
-    (("kept", "ahead"), ("ahead", "kept")), (("kept", "kept"), ("turned", "kept")), (("kept", "ahead"), ("kept", "kept")),
+    (("kept", "ahead"), ("ahead", "kept")), (("kept", "kept"), ("turned", "kept")),
+    (("kept", "ahead"), ("kept", "kept")),
     (("kept", "ahead"), ("behind", "ahead")), (("kept", "ahead"), ("behind",)), (("kept", "ahead"), ["behind", "kept"]),
     (("kept", "ahead", "kept"), ("behind", "kept", "kept")), (("kept", {}), ([], "kept")), ("kept", "kept"),
-    (("kept", "ahead"), "behind"), (("kept", ("ahead",)), (("behind",), "kept")), "kept", (("kept", "a"), ("a", "kept")),
+    (("kept", "ahead"), "behind"), (("kept", ("ahead",)), (("behind",), "kept")), "kept",
+    (("kept", "a"), ("a", "kept")),
     (("kept",) * 9,) * 9, (("kept",) * 2000,), (("kept", "kept"), ("kept", None)), SORT, (SORT,), ((0, 1), (1, 0)),
 )
 
@@ -111,7 +113,8 @@ class IsTableTest(Case):
 
 class TableOfTest(Case):
     def test_the_example(self):
-        self.told((('kept', 'ahead', 'kept'), ('behind', 'turned', 'behind'), ('kept', 'ahead', 'kept')), table_of(SORT))
+        self.told((('kept', 'ahead', 'kept'), ('behind', 'turned', 'behind'), ('kept', 'ahead', 'kept')),
+                  table_of(SORT))
 
     def test_it_has_the_ways_of_the_throw(self):
         draw = Random(2)
@@ -130,7 +133,8 @@ class TableOfTest(Case):
 
 class RingTest(Case):
     def test_the_examples(self):
-        self.told([True, True, False], [is_ring(MIXED, (2, 1, 0)), is_ring(MIXED, (0, 1, 2)), is_ring(MIXED, (0, 2, 1))])
+        self.told([True, True, False],
+                  [is_ring(MIXED, (2, 1, 0)), is_ring(MIXED, (0, 1, 2)), is_ring(MIXED, (0, 2, 1))])
 
     def test_all_decks_of_three_cards_of_small_sizes(self):
         for table in SMALL_TABLES:
