@@ -124,6 +124,12 @@ class Case(unittest.TestCase):
             self.told(repr(thing) in right, function(*args, thing), f"{args} {thing!r}"[:2000])
         self.assertEqual(repr(args), before)
 
+    def just_these_hold(self, is_right, candidates, judged, function, *args):
+        """As only_right_ones_hold, where a function tells of any value whether it is right."""
+        self.assertTrue(is_right(judged), (args, judged))
+        things = (*candidates, judged, *near(judged), *NOTHING_VALID, *STRINGS, *INTEGERS, ())
+        self.only_right_ones_hold([thing for thing in things if is_right(thing)], candidates, judged, function, *args)
+
     def told(self, expected, result, about=None):
         """The result is equal, and of the same kinds throughout (True is not 1)."""
         self.assertEqual(repr(result), repr(expected), about)

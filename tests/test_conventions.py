@@ -1,10 +1,12 @@
 import unittest
 from itertools import permutations
 
-from lotthrows import decks, folded, outcomes, plans, rows, sheets, tables, throws, words
+from lotthrows import (
+    books, decks, facts, folded, outcomes, plans, probes, rows, sheets, tables, throws, trees, words,
+)
 from lotthrows.errors import (
-    BadChoice, BadCode, BadDeck, BadDesk, BadDesks, BadKind, BadNumber, BadOrder, BadPlan, BadSheet, BadSize, BadTable,
-    BadThrow, BadThrows, BadWord,
+    BadBook, BadChoice, BadCode, BadCounts, BadDeck, BadDesk, BadDesks, BadFacts, BadKind, BadNumber, BadOrder, BadPlan,
+    BadSheet, BadSize, BadTable, BadThrow, BadThrows, BadTree, BadWay, BadWord,
 )
 from helpers import SORT, Case
 from test_form import INTERFACE
@@ -15,6 +17,9 @@ DESK = ("tray", "pile")
 DESKS = (("tray", "pile", "tray"), ("pile", "pile"))
 CHOICE = ((((0, 1), -1),), (((0,), 1), ((1,), 1)), (((0, 1), 1),), (((0, 1), 1),), (((0, 1), 1),))
 TABLE = (("kept", "ahead", "kept"), ("behind", "turned", "behind"), ("kept", "ahead", "kept"))
+SEEN = (((0, 1, 0), (1, 0, 2)),)
+BOOK = ((((0,), 1), ((1,), -1)), (((0, 1), -1),))
+TWO = (((0, 1), 1),)
 
 # The function, its arguments in the order of its parameters, and its result.
 CALLS = (
@@ -104,6 +109,42 @@ CALLS = (
     (plans.plan_for, {"desks": DESKS, "throw": SORT}, ((1, 0, 1), (0, 0, 0))),
     (plans.fewest, {"desk": DESK, "throw": SORT}, 1),
     (plans.sign_rows, {"desks": DESKS, "m": 2}, 4),
+    (trees.is_tree, {"desk": DESK, "throw": SORT, "thing": ((0, 0), (1, 1))}, True),
+    (trees.is_tree, {"desk": DESK, "throw": SORT, "thing": [[0, 0], (1, 1)]}, False),
+    (trees.handlings, {"desk": DESK, "throw": SORT, "tree": ((0, 0), (1, 1)), "counts": (3, 2)}, 5),
+    (trees.order_by_tree, {"desk": DESK, "throw": SORT, "tree": ((0, 0), (1, 1)), "deck": DECK}, (1, 2, 4, 3, 0)),
+    (trees.best_tree, {"desk": DESK, "throw": SORT, "counts": (3, 2)}, ((0, 0), (1, 1))),
+    (trees.least_handlings, {"desk": DESK, "throw": SORT, "counts": (3, 2)}, 5),
+    (facts.fits, {"throw": TWO, "facts": SEEN}, False),
+    (facts.fits, {"throw": (((1,), 1), ((0,), 1)), "facts": SEEN}, True),
+    (facts.judge_facts, {"size": 2, "facts": SEEN}, ("throw", (((1,), 1), ((0,), 1)))),
+    (facts.facts_hold, {"size": 2, "facts": SEEN, "thing": ("throw", (((1,), -1), ((0,), 1)))}, True),
+    (facts.facts_hold, {"size": 2, "facts": SEEN, "thing": ["knot", [0], {0: 1}, ()]}, False),
+    (facts.ways_left, {"size": 2, "facts": SEEN, "a": 0, "b": 1}, ("behind",)),
+    (facts.judge_way, {"size": 2, "facts": SEEN, "a": 0, "b": 1, "way": "kept"}, ("never",)),
+    (facts.way_holds, {"size": 2, "facts": SEEN, "a": 0, "b": 1, "way": "kept", "thing": ("never",)}, True),
+    (facts.way_holds, {"size": 2, "facts": SEEN, "a": 0, "b": 1, "way": "kept", "thing": ["never"]}, False),
+    (facts.fitting_throws, {"size": 2, "facts": SEEN, "most": 2},
+     ((((1,), -1), ((0,), 1)), (((1,), 1), ((0,), 1)))),
+    (probes.judge_test, {"size": 2, "deck": (0, 1, 1, 0)}, ("tells",)),
+    (probes.test_holds, {"size": 2, "deck": (0, 1, 1, 0), "thing": ("tells",)}, True),
+    (probes.test_holds, {"size": 2, "deck": (0, 1, 1, 0), "thing": ["same", [TWO], {0: TWO}]}, False),
+    (probes.least_test, {"size": 1}, (0, 0)),
+    (probes.looks_left, {"size": 2, "facts": SEEN, "deck": (0, 1)}, (((1, 0), 2),)),
+    (books.is_book, {"thing": BOOK}, True),
+    (books.is_book, {"thing": [list(BOOK), {0: BOOK}]}, False),
+    (books.made_by, {"book": BOOK, "numbers": (0, 1)}, (((1,), 1), ((0,), -1))),
+    (books.all_made, {"book": BOOK[1:]}, ((((0, 1), -1),), TWO)),
+    (books.row_lengths, {"book": BOOK[1:]}, (((((0, 1), -1),), 1), (TWO, 0))),
+    (books.judge_reached, {"book": BOOK, "throw": (((1,), 1), ((0,), -1))}, ("row", (0, 1))),
+    (books.reached_holds, {"book": BOOK, "throw": (((1,), 1), ((0,), -1)), "thing": ("row", (0, 1))}, True),
+    (books.reached_holds, {"book": BOOK, "throw": TWO, "thing": ["closed", [TWO]]}, False),
+    (books.judge_brought, {"book": BOOK, "kinds": (1, 0)}, ("row", (0, 1))),
+    (books.brought_holds, {"book": BOOK, "kinds": (1, 0), "thing": ("row", (0, 1))}, True),
+    (books.brought_holds, {"book": BOOK, "kinds": (1, 0), "thing": ["row", [0, {}]]}, False),
+    (books.judge_same, {"one": BOOK, "other": BOOK[::-1]}, ("same",)),
+    (books.same_holds, {"one": BOOK, "other": BOOK[1:], "thing": ("first", BOOK[0])}, True),
+    (books.same_holds, {"one": BOOK, "other": BOOK[1:], "thing": ["first", [BOOK[0]]]}, False),
 )
 # The parameters that are passed by name alone.
 NAMED = ("most",)
@@ -170,6 +211,36 @@ REFUSALS = (
     (plans.plan_for, (("desks", [], BadDesks), ("throw", [[]], BadThrow))),
     (plans.fewest, (("desk", [], BadDesk), ("throw", [[]], BadThrow))),
     (plans.sign_rows, (("desks", [], BadDesks), ("m", [[]], BadNumber))),
+    (trees.is_tree, (("desk", [], BadDesk), ("throw", [[]], BadThrow), ("thing", {0: []}, None))),
+    (trees.handlings, (("desk", [], BadDesk), ("throw", [[]], BadThrow), ("tree", {0: []}, BadTree),
+                       ("counts", {1: []}, BadCounts))),
+    (trees.order_by_tree, (("desk", [], BadDesk), ("throw", [[]], BadThrow), ("tree", {0: []}, BadTree),
+                           ("deck", {1: []}, BadDeck))),
+    (trees.best_tree, (("desk", [], BadDesk), ("throw", [[]], BadThrow), ("counts", {0: []}, BadCounts))),
+    (trees.least_handlings, (("desk", [], BadDesk), ("throw", [[]], BadThrow), ("counts", {0: []}, BadCounts))),
+    (facts.fits, (("throw", [], BadThrow), ("facts", [[]], BadFacts))),
+    (facts.judge_facts, (("size", [], BadSize), ("facts", [[]], BadFacts))),
+    (facts.facts_hold, (("size", [], BadSize), ("facts", [[]], BadFacts), ("thing", {0: []}, None))),
+    (facts.ways_left, (("size", [], BadSize), ("facts", [[]], BadFacts), ("a", {0: []}, BadKind),
+                       ("b", {1: []}, BadKind))),
+    (facts.judge_way, (("size", [], BadSize), ("facts", [[]], BadFacts), ("a", {0: []}, BadKind),
+                       ("b", {1: []}, BadKind), ("way", {2: []}, BadWay))),
+    (facts.way_holds, (("size", [], BadSize), ("facts", [[]], BadFacts), ("a", {0: []}, BadKind),
+                       ("b", {1: []}, BadKind), ("way", {2: []}, BadWay), ("thing", {3: []}, None))),
+    (facts.fitting_throws, (("size", [], BadSize), ("facts", [[]], BadFacts), ("most", {0: []}, BadNumber))),
+    (probes.judge_test, (("size", [], BadSize), ("deck", [[]], BadDeck))),
+    (probes.test_holds, (("size", [], BadSize), ("deck", [[]], BadDeck), ("thing", {0: []}, None))),
+    (probes.least_test, (("size", [], BadSize),)),
+    (probes.looks_left, (("size", [], BadSize), ("facts", [[]], BadFacts), ("deck", {0: []}, BadDeck))),
+    (books.made_by, (("book", [], BadBook), ("numbers", [[]], BadNumber))),
+    (books.all_made, (("book", [], BadBook),)),
+    (books.row_lengths, (("book", [], BadBook),)),
+    (books.judge_reached, (("book", [], BadBook), ("throw", [[]], BadThrow))),
+    (books.reached_holds, (("book", [], BadBook), ("throw", [[]], BadThrow), ("thing", {0: []}, None))),
+    (books.judge_brought, (("book", [], BadBook), ("kinds", [[]], BadOrder))),
+    (books.brought_holds, (("book", [], BadBook), ("kinds", [[]], BadOrder), ("thing", {0: []}, None))),
+    (books.judge_same, (("one", [], BadBook), ("other", [[]], BadBook))),
+    (books.same_holds, (("one", [], BadBook), ("other", [[]], BadBook), ("thing", {0: []}, None))),
 )
 
 

@@ -2,12 +2,17 @@
 
 import unittest
 
+from lotthrows.books import (
+    all_made, brought_holds, is_book, judge_brought, judge_reached, judge_same, made_by, reached_holds, row_lengths,
+)
 from lotthrows.decks import (
     counts_of, deck_text, is_deck, is_order, laid, opposite, read_deck, together, undone_order,
 )
+from lotthrows.facts import facts_hold, fits, fitting_throws, judge_facts, judge_way, ways_left
 from lotthrows.folded import are_desks, code_at, codes_number, folded_word, is_ahead, is_code, position_of, sign_of
 from lotthrows.outcomes import all_in, can_come, went_in
 from lotthrows.plans import fewest, judge_made, made_holds, plan_for, sign_rows, throw_of_plan
+from lotthrows.probes import judge_test, least_test, looks_left, test_holds
 from lotthrows.rows import behind_holds, both, judge_ahead, judge_behind, judge_undone, power, row_of, undone_holds
 from lotthrows.sheets import gathered, is_desk, is_sheet, sheet_for, throw_by
 from lotthrows.tables import (
@@ -16,6 +21,7 @@ from lotthrows.tables import (
 from lotthrows.throws import (
     deck_after, is_throw, lot_of, order_after, read_throw, size_of, still, throw_text, turning, way_of,
 )
+from lotthrows.trees import best_tree, handlings, is_tree, least_handlings, order_by_tree
 from lotthrows.words import (
     all_plain, are_alike_kept, is_word, judge_words, last_stands, plain_number, plain_word, throw_of, words_hold,
 )
@@ -129,6 +135,57 @@ class ExamplesTest(Case):
             [(((1,), 1), ((0,), -1)), ((0, 1, 0, 2),)],
             [throw_of_plan(2, ((("tray", "pile"),) * 2), ((0, 1), (1, 1))),
              plan_for((one,), (((0, 2), 1), ((1,), -1), ((3,), 1)))])
+
+    def test_part_7(self):
+        pair, four = ("tray", "pile"), (((0,), 1), ((1,), 1), ((2,), -1), ((3,), 1))
+        tree = ((0, ((0, 0), (1, ((1, 1),)))), (1, ((0, 2), (1, 3))))
+        self.told(
+            [True, 25, (2, 1, 4, 3, 0, 5), False, True],
+            [is_tree(pair, four, tree), handlings(pair, four, tree, (5, 1, 2, 4)),
+             order_by_tree(pair, four, tree, (3, 1, 0, 2, 1, 3)), is_tree(pair, four, 0),
+             is_tree(pair, (((0, 1), 1),), 0)])
+        self.told(
+            [10, 13, 17, None, ((0, 0), (1, 1))],
+            [least_handlings(pair, (((0,), 1), ((1,), -1)), (7, 3)),
+             least_handlings(pair, (((0,), 1), ((1,), 1)), (7, 3)),
+             least_handlings(pair, (((0,), 1), ((1,), 1)), (3, 7)),
+             least_handlings(("tray", "tray"), (((0,), -1), ((1,), 1)), (1, 1)),
+             best_tree(pair, (((0,), 1), ((1,), -1)), (7, 3))])
+
+    def test_part_8_facts(self):
+        seen = (((0, 1, 0), (1, 0, 2)),)
+        parted = (((0, 0), (0, 1)), ((0, 0), (1, 0)))
+        self.told(
+            [('behind',), ('kept',), ('kept', 'turned'), ('sure',), ('never',), 'open'],
+            [ways_left(2, seen, 0, 1), ways_left(2, seen, 0, 0), ways_left(2, seen, 1, 1),
+             judge_way(2, seen, 0, 1, 'behind'), judge_way(2, seen, 1, 0, 'behind'),
+             judge_way(2, seen, 1, 1, 'kept')[0]])
+        self.told(
+            [True, ((((1,), -1), ((0,), 1)), (((1,), 1), ((0,), 1))), 'knot', True],
+            [fits((((1,), -1), ((0,), 1)), seen), fitting_throws(2, seen, 9), judge_facts(1, parted)[0],
+             facts_hold(1, parted, ('knot', (0,), (0, 0, 1), (1, 0, 1)))])
+
+    def test_part_8_probes(self):
+        seen = (((0, 1, 0), (1, 0, 2)),)
+        self.told(
+            [('tells',), 'same', True, (0, 0), (((1, 2, 0), 1), ((2, 1, 0), 1))],
+            [judge_test(2, (0, 1, 1, 0)), judge_test(2, (0, 0, 1, 1))[0],
+             test_holds(2, (0, 0, 1, 1), ('same', (((0,), 1), ((1,), 1)), (((0, 1), 1),))), least_test(1),
+             looks_left(2, seen, (0, 1, 1))])
+
+    def test_part_9(self):
+        turn = ((((0, 1), -1),),)
+        apart = ((((0,), 1), ((1,), -1)), (((0, 1), -1),))
+        self.told(
+            [True, False, ((((0, 1), -1),), (((0, 1), 1),)), (((((0, 1), -1),), 1), ((((0, 1), 1),), 0)), ('row', ()),
+             'closed'],
+            [is_book(turn), is_book(()), all_made(turn), row_lengths(turn), judge_reached(turn, (((0, 1), 1),)),
+             judge_reached(turn, (((0,), 1), ((1,), 1)))[0]])
+        self.told(
+            [(((1,), 1), ((0,), -1)), ('row', (0, 1)), 'closed', True, False, 'first', ('same',)],
+            [made_by(apart, (0, 1)), judge_brought(apart, (1, 0)), judge_brought(turn, (0, 1))[0],
+             reached_holds(turn, (((0,), 1), ((1,), 1)), ('closed', ((((0, 1), -1),), (((0, 1), 1),)))),
+             brought_holds(apart, (0, 1), ('row', (1, 0))), judge_same(apart, turn)[0], judge_same(turn, turn)])
 
 
 if __name__ == "__main__":

@@ -50,6 +50,25 @@ INTERFACE = {
         "made_holds": "(desks, throw, thing)", "plan_for": "(desks, throw)", "fewest": "(desk, throw)",
         "sign_rows": "(desks, m)",
     },
+    "trees": {
+        "is_tree": "(desk, throw, thing)", "handlings": "(desk, throw, tree, counts)",
+        "order_by_tree": "(desk, throw, tree, deck)", "best_tree": "(desk, throw, counts)",
+        "least_handlings": "(desk, throw, counts)",
+    },
+    "facts": {
+        "fits": "(throw, facts)", "judge_facts": "(size, facts)", "facts_hold": "(size, facts, thing)",
+        "ways_left": "(size, facts, a, b)", "judge_way": "(size, facts, a, b, way)",
+        "way_holds": "(size, facts, a, b, way, thing)", "fitting_throws": "(size, facts, most)",
+    },
+    "probes": {
+        "judge_test": "(size, deck)", "test_holds": "(size, deck, thing)", "least_test": "(size)",
+        "looks_left": "(size, facts, deck)",
+    },
+    "books": {
+        "is_book": "(thing)", "made_by": "(book, numbers)", "all_made": "(book)", "row_lengths": "(book)",
+        "judge_reached": "(book, throw)", "reached_holds": "(book, throw, thing)", "judge_brought": "(book, kinds)",
+        "brought_holds": "(book, kinds, thing)", "judge_same": "(one, other)", "same_holds": "(one, other, thing)",
+    },
 }
 LIBRARY = {"math": ("gcd", "lcm", "isqrt", "comb", "perm", "factorial")}
 CALLED_BUILTINS = (
