@@ -1,6 +1,6 @@
 """Books of throws, and which throws rows of their throws make."""
 
-from lotthrows.checks import is_marked, is_within
+from lotthrows.checks import is_ascending, is_marked, is_within
 from lotthrows.decks import need_order
 from lotthrows.errors import BadBook, BadNumber, OtherSize
 from lotthrows.rows import MOST_THROWS, is_throw_of_size, joined
@@ -79,7 +79,7 @@ def are_ascending_throws(size, thing):
     """Tell whether any value is an ascending tuple of throws of the size."""
     if not isinstance(thing, tuple) or not all(is_throw_of_size(size, throw) for throw in thing):
         return False
-    return all([low < high for low, high in zip(thing, thing[1:])])
+    return is_ascending(thing)
 
 
 def is_closed(book, thing):

@@ -30,6 +30,11 @@ def are_kinds(size, things):
     return all(is_kind(size, thing) for thing in things)
 
 
+def is_ascending(things):
+    """Tell whether things of one kind are sorted, without duplicates."""
+    return all([low < high for low, high in zip(things, things[1:])])
+
+
 def is_marked(thing, mark, length):
     """Tell whether any value is a tuple of so many items of which the first one is the mark."""
     return isinstance(thing, tuple) and len(thing) == length and thing[0] == mark

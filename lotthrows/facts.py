@@ -83,11 +83,16 @@ def is_sight(facts, ring, sign, thing):
     return (order.index(i) < order.index(j)) == (sign == KEPT)
 
 
+def is_fitting(size, facts, thing):
+    """Tell whether any value is a throw of the size that fits facts."""
+    return is_throw_of_size(size, thing) and fits_all(thing, facts)
+
+
 def facts_hold(size, facts, thing):
     """Tell whether any value is a certificate for facts."""
     need_size_and_facts(size, facts)
     if is_marked(thing, "throw", 2):
-        return is_throw_of_size(size, thing[1]) and fits_all(thing[1], facts)
+        return is_fitting(size, facts, thing[1])
     if not is_marked(thing, "knot", 4) or not is_ring_seen(size, facts, thing[1]):
         return False
     _, ring, kept, turned = thing
@@ -157,11 +162,6 @@ def judge_way(size, facts, a, b, way):
     if others == []:
         return ("sure",)
     return ("open", found[way], others[0])
-
-
-def is_fitting(size, facts, thing):
-    """Tell whether any value is a throw of the size that fits facts."""
-    return is_throw_of_size(size, thing) and fits_all(thing, facts)
 
 
 def way_holds(size, facts, a, b, way, thing):

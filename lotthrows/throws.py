@@ -1,6 +1,6 @@
 """Throws: lots of kinds in a row, each of them kept or turned."""
 
-from lotthrows.checks import MOST_KINDS, is_integer, is_kind, need_kind, need_size
+from lotthrows.checks import MOST_KINDS, are_kinds, is_ascending, is_integer, need_kind, need_size
 from lotthrows.decks import kinds_text, laid, need_deck, read_kinds
 from lotthrows.errors import BadText, BadThrow
 
@@ -13,9 +13,7 @@ def is_lot(thing):
     """Tell whether any value is an ascending tuple of one or more kinds."""
     if not isinstance(thing, tuple) or thing == ():
         return False
-    if not all(is_kind(MOST_KINDS, kind) for kind in thing):
-        return False
-    return all([low < high for low, high in zip(thing, thing[1:])])
+    return are_kinds(MOST_KINDS, thing) and is_ascending(thing)
 
 
 def is_signed_lot(thing):

@@ -1,6 +1,6 @@
 """Trees: places from which what lies there is thrown again, and the trees with the least handlings."""
 
-from lotthrows.checks import is_integer, is_within
+from lotthrows.checks import is_ascending, is_integer, is_within
 from lotthrows.errors import BadCounts, BadTree
 from lotthrows.sheets import SIGN_OF_PLACE, need_desk
 from lotthrows.throws import KEPT, TURNED, need_throw, order_after
@@ -19,7 +19,7 @@ def is_spread(desk, thing):
     """Tell whether a tuple consists of one or more pairs of a place and something, the places ascending."""
     if thing == () or not all(is_place_and_more(desk, pair) for pair in thing):
         return False
-    return all([low[0] < high[0] for low, high in zip(thing, thing[1:])])
+    return is_ascending([place for place, _ in thing])
 
 
 def opened(desk, turn, thing):

@@ -3,6 +3,8 @@
 import unittest
 from itertools import permutations, product
 
+from lotthrows.benches import Bench
+
 
 def nested(depth):
     """A tuple within a tuple, and so on."""
@@ -12,12 +14,13 @@ def nested(depth):
     return value
 
 
+BENCH = Bench(2, (0, 1, 0))
 # None of these is an integer, a string, a deck, an order or a throw.
 NOTHING_VALID = (
     None, True, False, [], [0], [0, 1], {}, {0: 0}, {"a": [1, (2, None)]}, (None,), (True,), (False,), (0, True),
     (False, 1), ("0",), ("",), ([0],), ([],), ((),), ((0,),), (((0,),),), (-1,), (10 ** 99,), (-10 ** 99,), (0, -1),
     (0, [1]), ((0,), 1), [((0,), 1)], (((0,), True),), ({},), ({"a": 1}, 0), (0,) * 1999 + (8,), nested(12),
-    [[[[]]]], (0, None), ("a", 1, None, True, (), [], {}),
+    [[[[]]]], (0, None), ("a", 1, None, True, (), [], {}), BENCH, (BENCH,), ("throw", BENCH), (0, BENCH), [BENCH, 0],
 )
 INTEGERS = (0, 1, 2, 3, 7, -1, -2, 10 ** 99, -10 ** 99)
 STRINGS = ("", " ", "0", "01", "-", "0+", "01-", "a", "\n", "size 1", "~" * 2000)
@@ -42,7 +45,9 @@ NO_THROWS = NOTHING_VALID + STRINGS + INTEGERS + (
     (((0, None), 1),), (((0, (1,)), 1),), ("0+",), ("01", 1), (((0,), 1), "1+"),
 )
 # What is put in the place of a part of a value that is right.
-ODD_PARTS = (None, True, False, 0, 1, 2, 3, -1, 10 ** 99, "", "a", "throw", "tray", (), (0,), [], {}, ((0, 1), 1))
+ODD_PARTS = (
+    BENCH, None, True, False, 0, 1, 2, 3, -1, 10 ** 99, "", "a", "throw", "tray", (), (0,), [], {}, ((0, 1), 1),
+)
 SORT = (((0, 2), 1), ((1,), -1))
 SINGLES = tuple(((kind,), 1 - kind % 2 * 2) for kind in range(8))
 

@@ -25,6 +25,7 @@ BOOKS = (
     (SORT,), (SORT, turning(3)), (SORT, (((1,), 1), ((0, 2), -1)), still(3)), (SORT, SORT[::-1], turning(3), SORT),
     (still(4),), FOUR[:1], FOUR,
 )
+EVERY = {**THROWS, 4: all_throws(4)}
 NO_BOOKS = NOTHING_VALID + STRINGS + INTEGERS + (
     (), (STILL,) * 5, (still(5),), (still(4), still(5)), (STILL, still(1)), (STILL, STILL, STILL, still(3)), [STILL],
     [STILL, TURNED], STILL, (STILL, None), (STILL, ()), (STILL, [((0, 1), 1)]), (STILL, (((0, 1), True),)), {0: STILL},
@@ -213,7 +214,7 @@ class ReachedTest(Case):
 
     def test_closed_tuples_otherwise(self):
         closed = all_made(FOUR[:2])
-        barred = [throw for throw in all_throws(4) if throw not in closed][::97]
+        barred = [throw for throw in EVERY[4] if throw not in closed][::97]
         for throw in barred:
             self.told([True, False, False, False, False, False],
                       [reached_holds(FOUR[:2], throw, ("closed", throws))
@@ -307,7 +308,7 @@ class SameTest(Case):
             self.told(made[one] == made[other], same_holds(one, other, ("same",)))
             if judged != ("same",):
                 self.assertIn(judged[1], made[one] ^ made[other])
-            for throw in all_throws(size_of(one[0]))[::1 if size_of(one[0]) < 3 else 31]:
+            for throw in EVERY[size_of(one[0])][::1 if size_of(one[0]) < 3 else 31]:
                 self.told([throw in made[one] - made[other], throw in made[other] - made[one]],
                           [same_holds(one, other, (word, throw)) for word in ("first", "second")])
         self.assertEqual(told, {"same", "first", "second"})
@@ -348,7 +349,7 @@ class SameTest(Case):
 class LargeBooksTest(Case):
     def test_books_of_size_four_answer_at_once(self):
         started = perf_counter()
-        throws = all_throws(4)
+        throws = EVERY[4]
         sorting = tuple(((kind,), 1) for kind in (2, 0, 3, 1))
         for book in (FOUR, (turning(4), (((0, 1), 1), ((2, 3), -1)), (((0, 2), -1), ((1, 3), 1)),
                             (((3,), -1), ((0, 1, 2), 1)))):

@@ -2,11 +2,12 @@ import unittest
 from itertools import permutations
 
 from lotthrows import (
-    books, decks, facts, folded, outcomes, plans, probes, rows, sheets, tables, throws, trees, words,
+    benches, books, decks, facts, folded, numbers, outcomes, plans, probes, programs, rows, runs, sheets, tables,
+    throws, trees, words,
 )
 from lotthrows.errors import (
-    BadBook, BadChoice, BadCode, BadCounts, BadDeck, BadDesk, BadDesks, BadFacts, BadKind, BadNumber, BadOrder, BadPlan,
-    BadSheet, BadSize, BadTable, BadThrow, BadThrows, BadTree, BadWay, BadWord,
+    BadBook, BadChoice, BadCode, BadCounts, BadDeck, BadDesk, BadDesks, BadEnd, BadFacts, BadKind, BadNumber, BadOrder,
+    BadPlan, BadProgram, BadRun, BadSheet, BadSize, BadTable, BadThrow, BadThrows, BadTree, BadWay, BadWord,
 )
 from helpers import SORT, Case
 from test_form import INTERFACE
@@ -20,6 +21,14 @@ TABLE = (("kept", "ahead", "kept"), ("behind", "turned", "behind"), ("kept", "ah
 SEEN = (((0, 1, 0), (1, 0, 2)),)
 BOOK = ((((0,), 1), ((1,), -1)), (((0, 1), -1),))
 TWO = (((0, 1), 1),)
+PROGRAM = ("parted", (0,), ("throw", (((0, 1), -1),)), ("choice", (("throw", TWO), ("row", ()))))
+RUN = ((), (1, ()), (1, 0, 0))
+
+
+def standing_of_text(text):
+    """The standing of the bench that read_bench returns, which cannot be told by its repr."""
+    return benches.read_bench(text).standing()
+
 
 # The function, its arguments in the order of its parameters, and its result.
 CALLS = (
@@ -145,6 +154,28 @@ CALLS = (
     (books.judge_same, {"one": BOOK, "other": BOOK[::-1]}, ("same",)),
     (books.same_holds, {"one": BOOK, "other": BOOK[1:], "thing": ("first", BOOK[0])}, True),
     (books.same_holds, {"one": BOOK, "other": BOOK[1:], "thing": ["first", [BOOK[0]]]}, False),
+    (programs.is_program, {"size": 2, "thing": PROGRAM}, True),
+    (programs.is_program, {"size": 2, "thing": ["row", [list(PROGRAM), {0: ()}]]}, False),
+    (programs.parts_of, {"size": 2, "program": PROGRAM}, 5),
+    (programs.ends, {"size": 2, "program": PROGRAM, "a": 0, "b": 1}, ("ahead", "behind")),
+    (programs.judge_sorted, {"size": 2, "program": ("throw", BOOK[0]), "kinds": (0, 1)}, ("sure",)),
+    (programs.sorted_holds, {"size": 2, "program": PROGRAM, "kinds": (0, 1), "thing": ("wrong", 1, 0)}, True),
+    (programs.sorted_holds, {"size": 2, "program": PROGRAM, "kinds": (0, 1), "thing": ["wrong", [1], {0: 0}]}, False),
+    (programs.judge_alike, {"size": 2, "one": ("throw", TWO), "other": ("row", ())}, ("alike",)),
+    (programs.alike_holds, {"size": 2, "one": PROGRAM, "other": ("row", ()), "thing": ("unlike", 0, 1)}, True),
+    (programs.alike_holds, {"size": 2, "one": PROGRAM, "other": ("row", ()), "thing": ["alike"]}, False),
+    (runs.is_run, {"size": 2, "program": PROGRAM, "deck": (0, 1, 0), "thing": RUN}, True),
+    (runs.is_run, {"size": 2, "program": PROGRAM, "deck": (0, 1, 0), "thing": [[], [1, ()], [1, 0, 0]]}, False),
+    (runs.order_by, {"size": 2, "program": PROGRAM, "deck": (0, 1, 0), "run": RUN}, (1, 2, 0)),
+    (runs.run_to, {"size": 2, "program": ("row", (("throw", TWO),)), "a": 0, "b": 1, "end": "ahead"}, ((),)),
+    (numbers.throws_number, {"size": 3}, 74),
+    (numbers.throws_with, {"size": 3, "lots": 2, "turned": 1}, 12),
+    (numbers.throw_at, {"size": 1, "n": 1}, (((0,), 1),)),
+    (numbers.number_of, {"throw": (((0,), 1),)}, 1),
+    (numbers.decks_number, {"counts": (2, 1, 1)}, 12),
+    (numbers.outcomes_number, {"throw": SORT, "counts": (2, 1, 1)}, 3),
+    (numbers.alike_number, {"throw": SORT, "counts": (2, 1, 1)}, 4),
+    (standing_of_text, {"text": "size 2\ndeck 01\ndone 01+\nfirst 0"}, (2, (0, 1), TWO, (("first", 0),))),
 )
 # The parameters that are passed by name alone.
 NAMED = ("most",)
@@ -241,6 +272,29 @@ REFUSALS = (
     (books.brought_holds, (("book", [], BadBook), ("kinds", [[]], BadOrder), ("thing", {0: []}, None))),
     (books.judge_same, (("one", [], BadBook), ("other", [[]], BadBook))),
     (books.same_holds, (("one", [], BadBook), ("other", [[]], BadBook), ("thing", {0: []}, None))),
+    (programs.is_program, (("size", [], BadSize), ("thing", [[]], None))),
+    (programs.parts_of, (("size", [], BadSize), ("program", [[]], BadProgram))),
+    (programs.ends, (("size", [], BadSize), ("program", [[]], BadProgram), ("a", {0: []}, BadKind),
+                     ("b", {1: []}, BadKind))),
+    (programs.judge_sorted, (("size", [], BadSize), ("program", [[]], BadProgram), ("kinds", {0: []}, BadOrder))),
+    (programs.sorted_holds, (("size", [], BadSize), ("program", [[]], BadProgram), ("kinds", {0: []}, BadOrder),
+                             ("thing", {1: []}, None))),
+    (programs.judge_alike, (("size", [], BadSize), ("one", [[]], BadProgram), ("other", {0: []}, BadProgram))),
+    (programs.alike_holds, (("size", [], BadSize), ("one", [[]], BadProgram), ("other", {0: []}, BadProgram),
+                            ("thing", {1: []}, None))),
+    (runs.is_run, (("size", [], BadSize), ("program", [[]], BadProgram), ("deck", {0: []}, BadDeck),
+                   ("thing", {1: []}, None))),
+    (runs.order_by, (("size", [], BadSize), ("program", [[]], BadProgram), ("deck", {0: []}, BadDeck),
+                     ("run", {1: []}, BadRun))),
+    (runs.run_to, (("size", [], BadSize), ("program", [[]], BadProgram), ("a", {0: []}, BadKind),
+                   ("b", {1: []}, BadKind), ("end", {2: []}, BadEnd))),
+    (numbers.throws_number, (("size", [], BadSize),)),
+    (numbers.throws_with, (("size", [], BadSize), ("lots", [[]], BadNumber), ("turned", {0: []}, BadNumber))),
+    (numbers.throw_at, (("size", [], BadSize), ("n", [[]], BadNumber))),
+    (numbers.number_of, (("throw", [], BadThrow),)),
+    (numbers.decks_number, (("counts", [], BadCounts),)),
+    (numbers.outcomes_number, (("throw", [], BadThrow), ("counts", [[]], BadCounts))),
+    (numbers.alike_number, (("throw", [], BadThrow), ("counts", [[]], BadCounts))),
 )
 
 
@@ -253,6 +307,7 @@ def by_position(arguments):
 class ConventionsTest(Case):
     def test_each_function_of_the_interface_is_called(self):
         called = {(function.__module__, function.__name__) for function, _, _ in CALLS}
+        called.add(("lotthrows.benches", "read_bench"))
         for name, functions in INTERFACE.items():
             for function in functions:
                 self.assertIn(("lotthrows." + name, function), called)

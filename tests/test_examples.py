@@ -2,18 +2,25 @@
 
 import unittest
 
+from lotthrows.benches import Bench, read_bench
 from lotthrows.books import (
     all_made, brought_holds, is_book, judge_brought, judge_reached, judge_same, made_by, reached_holds, row_lengths,
 )
 from lotthrows.decks import (
     counts_of, deck_text, is_deck, is_order, laid, opposite, read_deck, together, undone_order,
 )
+from lotthrows.errors import Unkept
 from lotthrows.facts import facts_hold, fits, fitting_throws, judge_facts, judge_way, ways_left
 from lotthrows.folded import are_desks, code_at, codes_number, folded_word, is_ahead, is_code, position_of, sign_of
+from lotthrows.numbers import (
+    alike_number, decks_number, number_of, outcomes_number, throw_at, throws_number, throws_with,
+)
 from lotthrows.outcomes import all_in, can_come, went_in
 from lotthrows.plans import fewest, judge_made, made_holds, plan_for, sign_rows, throw_of_plan
 from lotthrows.probes import judge_test, least_test, looks_left, test_holds
+from lotthrows.programs import ends, is_program, judge_alike, judge_sorted, parts_of, sorted_holds
 from lotthrows.rows import behind_holds, both, judge_ahead, judge_behind, judge_undone, power, row_of, undone_holds
+from lotthrows.runs import is_run, order_by, run_to
 from lotthrows.sheets import gathered, is_desk, is_sheet, sheet_for, throw_by
 from lotthrows.tables import (
     is_ring, is_table, judge_table, order_by_table, table_holds, table_of, tables_number,
@@ -186,6 +193,54 @@ class ExamplesTest(Case):
             [made_by(apart, (0, 1)), judge_brought(apart, (1, 0)), judge_brought(turn, (0, 1))[0],
              reached_holds(turn, (((0,), 1), ((1,), 1)), ('closed', ((((0, 1), -1),), (((0, 1), 1),)))),
              brought_holds(apart, (0, 1), ('row', (1, 0))), judge_same(apart, turn)[0], judge_same(turn, turn)])
+
+    def test_part_10(self):
+        still_two, turned = ('throw', (((0, 1), 1),)), ('throw', (((0, 1), -1),))
+        lots = ('throw', (((0,), 1), ((1,), 1)))
+        twice = ('often', ('row', (turned, turned)))
+        parted = ('parted', (0,), turned, still_two)
+        self.told(
+            [True, False, 4, ('ahead',), ('ahead', 'behind'), ('behind',)],
+            [is_program(2, twice), is_program(2, ('choice', ())), parts_of(2, twice), ends(2, twice, 0, 1),
+             ends(2, ('choice', (still_two, turned)), 1, 1), ends(2, lots, 1, 0)])
+        self.told(
+            [('sure',), 'wrong', False, ('alike',), 'unlike'],
+            [judge_sorted(2, ('row', (turned, lots)), (0, 1)), judge_sorted(2, ('row', (lots, turned)), (0, 1))[0],
+             sorted_holds(2, still_two, (0, 1), ('wrong', 0, 1)), judge_alike(2, twice, still_two),
+             judge_alike(2, still_two, parted)[0]])
+        self.told(
+            [(1, 2, 0), False, (1, 0), None, ((),)],
+            [order_by(2, parted, (0, 1, 0), ((), (), (1, 0, 0))),
+             is_run(2, parted, (0, 1, 0), ((), (), (0, 0, 0))),
+             order_by(2, ('choice', (still_two, turned)), (0, 1), (1, ())), run_to(2, still_two, 0, 1, 'behind'),
+             run_to(2, ('row', (turned,)), 0, 1, 'behind')])
+
+    def test_part_11(self):
+        self.told(
+            [2, 74, 730, 12, 0, (((0,), -1), ((1,), -1)), (((0,), 1),), 1],
+            [throws_number(1), throws_number(3), throws_number(4), throws_with(3, 2, 1), throws_with(2, 3, 0),
+             throw_at(2, 0), throw_at(1, 1), number_of((((0,), 1),))])
+        self.told(
+            [12, 3, 4, 1],
+            [decks_number((2, 1, 1)), outcomes_number(SORT, (2, 1, 1)), alike_number(SORT, (2, 1, 1)),
+             decks_number((0, 0))])
+
+    def test_part_12(self):
+        bench = Bench(3, (1, 0, 2, 1, 0))
+        self.told(
+            [None, (0, 2, 0, 1, 1), None, None, 3, 'size 3\ndeck 10210\ndone 02+ 1-\npair 1 2\nfirst 1'],
+            [bench.thrown((((0, 2), 1), ((1,), -1))), bench.deck(), bench.claim(("pair", 1, 2)),
+             bench.claim(("first", 1)), bench.undoable(), bench.text()])
+        self.told(('pair', 1, 2), self.raised(Unkept, bench.thrown, (((0, 1, 2), -1),)).claim)
+        self.told(
+            [None, (((0, 2), 1), ((1,), -1)), (1, 2, 4, 3, 0), None, None, 1],
+            [bench.sheeted(("tray", "tray"), (0, 1, 0)), bench.done(), bench.order(), bench.release(("first", 1)),
+             bench.undo(), bench.redoable()])
+        self.told(('sorted', (0, 1, 2)), self.raised(Unkept, bench.claim, ("sorted", (0, 1, 2))).claim)
+        self.told(
+            [True, ()],
+            [read_bench(bench.text()).is_same(bench), read_bench("size 1\ndeck -\ndone 0+").claims()])
+        self.refused_text(3, read_bench, "size 2\ndeck 01")
 
 
 if __name__ == "__main__":

@@ -69,6 +69,27 @@ INTERFACE = {
         "judge_reached": "(book, throw)", "reached_holds": "(book, throw, thing)", "judge_brought": "(book, kinds)",
         "brought_holds": "(book, kinds, thing)", "judge_same": "(one, other)", "same_holds": "(one, other, thing)",
     },
+    "programs": {
+        "is_program": "(size, thing)", "parts_of": "(size, program)", "ends": "(size, program, a, b)",
+        "judge_sorted": "(size, program, kinds)", "sorted_holds": "(size, program, kinds, thing)",
+        "judge_alike": "(size, one, other)", "alike_holds": "(size, one, other, thing)",
+    },
+    "runs": {
+        "is_run": "(size, program, deck, thing)", "order_by": "(size, program, deck, run)",
+        "run_to": "(size, program, a, b, end)",
+    },
+    "numbers": {
+        "throws_number": "(size)", "throws_with": "(size, lots, turned)", "throw_at": "(size, n)",
+        "number_of": "(throw)", "decks_number": "(counts)", "outcomes_number": "(throw, counts)",
+        "alike_number": "(throw, counts)",
+    },
+    "benches": {"read_bench": "(text)"},
+}
+BENCH = {
+    "__init__": "(self, size, deck)", "standing": "(self)", "deck": "(self)", "order": "(self)", "done": "(self)",
+    "claims": "(self)", "text": "(self)", "undoable": "(self)", "redoable": "(self)", "is_same": "(self, thing)",
+    "copied": "(self)", "thrown": "(self, throw)", "sheeted": "(self, desk, sheet)", "claim": "(self, words)",
+    "release": "(self, words)", "undo": "(self)", "redo": "(self)",
 }
 LIBRARY = {"math": ("gcd", "lcm", "isqrt", "comb", "perm", "factorial")}
 CALLED_BUILTINS = (
@@ -126,6 +147,25 @@ class InterfaceTest(unittest.TestCase):
                 self.assertTrue(inspect.isfunction(found))
                 self.assertEqual((found.__module__, found.__name__), (module.__name__, function))
                 self.assertEqual(str(inspect.signature(found)), parameters, function)
+
+    def test_the_bench_has_its_methods_itself(self):
+        found = importlib.import_module("lotthrows.benches").Bench
+        self.assertEqual((found.__module__, found.__name__, found.__bases__), ("lotthrows.benches", "Bench", (object,)))
+        for method, parameters in BENCH.items():
+            self.assertTrue(inspect.isfunction(vars(found)[method]), method)
+            self.assertEqual(str(inspect.signature(vars(found)[method])), parameters, method)
+
+    def test_classes_have_no_name_twice(self):
+        for path, text, tree in sources():
+            for found in [node for node in ast.walk(tree) if isinstance(node, ast.ClassDef)]:
+                methods = [node.name for node in found.body if isinstance(node, ast.FunctionDef)]
+                attributes = {node.attr for node in ast.walk(found) if isinstance(node, ast.Attribute)
+                              and isinstance(node.ctx, ast.Store)}
+                self.assertEqual(len(methods), len(set(methods)), path)
+                self.assertEqual(attributes & set(methods), set(), path)
+                for name in (*methods, *attributes):
+                    for value in ("", 0, [], {}, set(), b""):
+                        self.assertFalse(hasattr(value, name) and name != "__init__", (path, name))
 
 
 class FormTest(unittest.TestCase):
