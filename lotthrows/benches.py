@@ -178,11 +178,11 @@ def read_bench(text):
         raise BadText(0)
     lines = text.split("\n")
     # A line that is lacking is read as an empty one, which is wrong, too.
-    first = lines + ["", ""]
-    size = size_of_line(first[0])
+    filled = lines + ["", ""]
+    size = size_of_line(filled[0])
     need_line(1, size)
-    deck = deck_of_line(size, first[1])
+    deck = deck_of_line(size, filled[1])
     need_line(2, deck)
-    done = throw_of_line(size, first[2])
+    done = throw_of_line(size, filled[2])
     need_line(3, done)
     return bench_with(size, deck, done, read_claims(size, deck, order_after(done, deck), lines[3:]))
